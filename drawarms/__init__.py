@@ -1,0 +1,1 @@
+"""Jointed arms that draw, and the one map that each of them is."""

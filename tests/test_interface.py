@@ -1,0 +1,80 @@
+"""Promise [3] and the interface: each name where it is listed, with the parameters that are listed."""
+
+import importlib
+import inspect
+import unittest
+
+from tests.support import STAYS
+
+INTERFACE = {
+    "complexes": {
+        "added": "number other", "subtracted": "number other", "product": "number other", "conjugate": "number",
+        "norm": "number", "quarter_form": "number", "quotient": "number other", "common_divisor": "numbers",
+        "root_of": "number",
+    },
+    "places": {
+        "place_of": "number other", "is_place": "value", "sum_of": "place other", "difference_of": "place other",
+        "product_of": "place other", "quotient_of": "place other", "distance_of": "place other",
+    },
+    "rounds": {
+        "round_of": "row", "value_at": "row place", "side_of": "row place", "round_through": "first second third",
+        "middle_of": "circle", "radius_of": "circle", "shared": "circle other", "crossing": "circle other",
+        "touching_place": "circle other", "mirrored_place": "circle place", "mirrored_round": "circle other",
+    },
+    "maps": {
+        "map_of": "is_mirrored first second third fourth", "is_map": "value", "led_place": "chart place",
+        "led_round": "chart circle", "after": "chart other", "back": "chart", "mirror_in": "circle",
+        "is_straight": "chart circle",
+    },
+    "triples": {
+        "plain_through": "sources goals", "mirrored_through": "sources goals",
+        "ratio_of_four": "first second third fourth", "on_one_round": "first second third fourth",
+    },
+    "kinds": {
+        "kind_of": "chart", "trace_ratio": "chart", "return_of": "chart", "staying": "chart", "staying_places": "chart",
+        "power_of": "chart many", "place_after": "chart place many",
+    },
+    "arms": {
+        "is_cell": "value", "is_arm": "value", "cell_map": "cell", "arm_map": "arm", "lets": "arm place",
+        "pen_of": "arm place", "pins_of": "arm place",
+    },
+    "lots": {
+        "Lot": "tree", "holds": "lot place", "both": "lot other", "either": "lot other", "less": "lot other", "rest": "lot",
+        "disc_tree": "pole square", "ring_tree": "pole ring",
+    },
+}
+
+
+class Interface(unittest.TestCase):
+    def test_names_and_parameters(self):
+        for module, names in INTERFACE.items():
+            for name, parameters in names.items():
+                listed = getattr(importlib.import_module("drawarms." + module), name)
+                self.assertEqual((listed.__module__, listed.__name__), ("drawarms." + module, name))
+                signature = inspect.signature(listed)
+                self.assertEqual(list(signature.parameters), parameters.split())
+                for parameter in signature.parameters.values():
+                    self.assertIs(parameter.kind, parameter.POSITIONAL_OR_KEYWORD)
+                    self.assertIs(parameter.default, parameter.empty)
+
+    def test_methods_and_properties_of_lots_stand_in_the_class(self):
+        from drawarms.lots import Lot
+        for name in ("__init__", "tree", "rounds"):
+            self.assertIn(name, vars(Lot))
+        self.assertIsInstance(vars(Lot)["tree"], property)
+        self.assertIsInstance(vars(Lot)["rounds"], property)
+
+    def test_equal_calls_return_equal_results(self):
+        from drawarms.arms import pins_of
+        from drawarms.kinds import staying_places
+        from drawarms.maps import map_of
+        from drawarms.rounds import round_through
+        for _ in range(3):
+            self.assertEqual(map_of(0, (0, 3), (0, 0), (0, 0), (0, 3)), STAYS)
+            self.assertEqual(round_through((0, 0, 1), (1, 1, 1), (1, 0, 0)), (0, 1, -1, 0))
+            self.assertEqual(staying_places((0, (2, 0), (0, 0), (0, 0), (1, 0))), ((0, 0, 1), (1, 0, 0)))
+            self.assertEqual(pins_of((("carry", (1, 0, 1)),), (0, 0, 1)), ((0, 0, 1), (1, 0, 1)))
+
+
+if __name__ == "__main__":
+    unittest.main()
