@@ -31,7 +31,8 @@ def _plain_kind(chart):
     return "winds" if p < 4 * r else "pulls"
 
 
-def _mirrored_kind(chart):
+def mirrored_kind(chart):
+    """The word for a mirrored map."""
     square = joined(chart, chart)
     if square != STAYS:
         return _plain_kind(square)
@@ -42,7 +43,7 @@ def _mirrored_kind(chart):
 
 
 def _kind(chart):
-    return _mirrored_kind(chart) if chart[0] else _plain_kind(chart)
+    return mirrored_kind(chart) if chart[0] else _plain_kind(chart)
 
 
 def kind_of(chart):

@@ -39,9 +39,16 @@ def require_round(circle):
         raise InvalidRound(circle)
 
 
-def _require_both(circle, other):
+def require_both_rounds(circle, other):
+    """Raise InvalidRound for the first one that is no round."""
     require_round(circle)
     require_round(other)
+
+
+def require_unlike_rounds(circle, other):
+    """Raise Same with the other round if it is the first one."""
+    if circle == other:
+        raise Same(other)
 
 
 def opposite(row):
@@ -108,7 +115,7 @@ def require_unlike(places):
             raise Same(place)
 
 
-def _factors(place):
+def place_factors(place):
     """What the four numbers of a row are multiplied by in its value at a place."""
     p, s, r = place
     return (p * p + s * s, p * r, s * r, r * r)
@@ -127,7 +134,7 @@ def round_through(first, second, third):
         require_place(place)
     require_unlike(places)
     # That the value is 0 at all three are three linear equations; their minors solve them.
-    tables = [_factors(place) for place in places]
+    tables = [place_factors(place) for place in places]
     return round_from((_minor(tables, 0), -_minor(tables, 1), _minor(tables, 2), -_minor(tables, 3)))
 
 
@@ -153,7 +160,7 @@ def _crossing_parts(circle, other):
 
 def shared(circle, other):
     """How many places two rounds share, 0, 1 or 2; None if they are the same."""
-    _require_both(circle, other)
+    require_both_rounds(circle, other)
     if circle == other:
         return None
     upper, lower = _crossing_parts(circle, other)
@@ -162,7 +169,7 @@ def shared(circle, other):
 
 def crossing(circle, other):
     """J * J / (D * D') as a reduced pair."""
-    _require_both(circle, other)
+    require_both_rounds(circle, other)
     return reduced(_crossing_parts(circle, other))
 
 
@@ -185,5 +192,5 @@ def mirrored_place(circle, place):
 
 def mirrored_round(circle, other):
     """The mirror image of the other round in the first one."""
-    _require_both(circle, other)
+    require_both_rounds(circle, other)
     return round_from(mixed(other, paired(circle, circle), circle, -2 * paired(circle, other)))

@@ -38,18 +38,24 @@ def _frame(places):
     )
 
 
+def map_through(flag, sources, goals):
+    """The map, plain for 0 and mirrored for 1, that leads three different places to three different ones."""
+    frame = conjugates(_frame(sources)) if flag else _frame(sources)
+    return map_from(flag, matrix_product(_frame(goals), adjugate(frame)))
+
+
 def plain_through(sources, goals):
     """The plain map that leads three different places, in order, to three different ones."""
     _require_triple(sources)
     _require_triple(goals)
-    return map_from(0, matrix_product(_frame(goals), adjugate(_frame(sources))))
+    return map_through(0, sources, goals)
 
 
 def mirrored_through(sources, goals):
     """The mirrored map that leads three different places, in order, to three different ones."""
     _require_triple(sources)
     _require_triple(goals)
-    return map_from(1, matrix_product(_frame(goals), adjugate(conjugates(_frame(sources)))))
+    return map_through(1, sources, goals)
 
 
 def ratio_of_four(first, second, third, fourth):

@@ -6,6 +6,8 @@ import unittest
 from fractions import Fraction
 from math import gcd
 
+from drawarms.maps import map_of
+
 FAR = (1, 0, 0)
 BIG = 10 ** 39 + 7
 STAYS = (0, (1, 0), (0, 0), (0, 0), (1, 0))
@@ -139,6 +141,40 @@ WRONG_TREES = ANYTHING + [
     ("and", (("or", (("rim", (0, 1, 0, 0)),) * 8),) * 4),
 ]
 
+# None, True and False, then what is no small whole number.
+NO_NUMBERS = ANYTHING[:3] + [
+    2, -2, 5, BIG, -BIG, (), (0,), (1,), [], [1], "", "0", "1", b"1", STUBBORN, {}, object(), int, len, (None,), nested(14, 1),
+]
+WRONG_SIGNS = NO_NUMBERS
+WRONG_WAYS = NO_NUMBERS + [0]
+WRONG_BOTH_HANDS = NO_NUMBERS[1:] + [-1, -3]
+WRONG_ONE_HANDS = NO_NUMBERS + [-1, -3]
+WRONG_LINK_NUMBERS = ANYTHING[:3] + [0, -1, 13, 100, BIG, -BIG] + NO_NUMBERS[6:]
+WRONG_LOTS = ANYTHING + [SIDE, ("all",), (("all",),), "lot"]
+ARC = ((1, 0, 1), (0, 1, 1), (-1, 0, 1))
+WRONG_ARCS = ANYTHING + [
+    ARC[:2], ARC + ((0, -1, 1),), list(ARC), (ARC,), (ARC, ARC, ARC), "abc", b"abc", (1, 2, 3), {1: 1, 2: 2, 3: 3},
+    ((1, 0, 1), (0, 1, 1), (1, 0, 1)), ((1, 0, 1), (1, 0, 1), (0, 1, 1)), ((0, 1, 1), (1, 0, 1), (1, 0, 1)),
+    ((1, 0, 1),) * 3, (FAR, FAR, (0, 0, 1)), (FAR, (0, 0, 1), FAR), ((0, 0, 1), FAR, FAR), (FAR,) * 3,
+    ([1, 0, 1], (0, 1, 1), (-1, 0, 1)), ((1, 0, 1), [0, 1, 1], (-1, 0, 1)), ((1, 0, 1), (0, 1, 1), [-1, 0, 1]),
+    ((1, 0, 1), (0, 1, 1), STUBBORN), (STUBBORN, (0, 1, 1), (-1, 0, 1)), ((1, 0, 1), (0, True, 1), (-1, 0, 1)),
+] + [ARC[:at] + (wrong,) + ARC[at + 1:] for wrong in WRONG_PLACES for at in (0, 1, 2)]
+
+
+def indexes_of_wrong(goods, wrongs, most):
+    """Wrong tuples of what each may stand there but for some wrong ones, with the index of the first wrong element.
+
+    `goods` are at least so many and one more that may stand behind one another.
+    """
+    told = [(value, None) for value in NO_TUPLES + [list(goods[:2])]]
+    for at, wrong in enumerate(wrongs):
+        many = at % most
+        told.append((goods[:many] + (wrong,), many))
+        told.append((goods[:1] + (wrong, None) + goods[1:3], 1))
+    told.extend([(goods[:most] + (None,), most), (goods[:most + 1], most), (goods[:most + 1] * 3, most), ((goods,), 0)])
+    return told
+
+
 PLACES = [
     FAR, (0, 0, 1), (1, 0, 1), (-1, 0, 1), (0, 1, 1), (0, -1, 1), (1, 1, 1), (2, 0, 1), (1, 0, 2), (0, 2, 3), (3, 4, 5),
     (-3, 4, 5), (1, 7, 10), (-5, -2, 3), (12, -5, 13), (100, 1, 7), (BIG, -BIG + 1, 3), (1, BIG, BIG + 1),
@@ -236,6 +272,21 @@ class Samples:
             line = self.circle()
         return (word, line)
 
+    def arc(self, size=3):
+        return self.places(3, size)
+
+    def curve(self, many, size=3):
+        """A curve of so many arcs."""
+        arcs = [self.arc(size)]
+        while len(arcs) < many:
+            over, end = self.places(2, size)
+            if arcs[-1][2] not in (over, end):
+                arcs.append((arcs[-1][2], over, end))
+        return tuple(arcs)
+
+    def chart(self, size=5):
+        return map_of(self.choice((0, 1)), *self.numbers(size))
+
     def arm(self, most=4):
         return tuple(self.cell() for _ in range(self._source.randint(0, most)))
 
@@ -326,6 +377,14 @@ class ArgumentCase(unittest.TestCase):
             caught = self.raised(wrongs[name][0], function, **passed)
             if "given" in vars(caught):
                 self.assertIs(caught.given, passed[name])
+
+    def check_indexes(self, error, function, arguments, name, told):
+        """The call with each wrong tuple raises the error with the index that is told beside it."""
+        for wrong, index in told:
+            passed = {**arguments, name: wrong}
+            for caught in (self.raised(error, function, *passed.values()), self.raised(error, function, **passed)):
+                self.assertIs(caught.index.__class__, index.__class__)
+                self.assertEqual(caught.index, index)
 
     def same_by_name(self, function, arguments, expected):
         """A call by position and by name returns what is expected."""

@@ -11,7 +11,7 @@ class Examples(unittest.TestCase):
     def test_each_example(self):
         failed, tried = doctest.testfile(EXAMPLES, module_relative=False)
         self.assertEqual(failed, 0)
-        self.assertGreaterEqual(tried, 20)
+        self.assertEqual(tried, 49)
 
 
 if __name__ == "__main__":

@@ -42,6 +42,43 @@ INTERFACE = {
         "Lot": "tree", "holds": "lot place", "both": "lot other", "either": "lot other", "less": "lot other", "rest": "lot",
         "disc_tree": "pole square", "ring_tree": "pole ring",
     },
+    "meetings": {
+        "meetings": "circle other", "meeting_place": "circle other sign", "side_at": "row circle other sign", "signs_for": "rounds",
+    },
+    "inside": {
+        "is_empty": "lot", "has_near_place": "lot", "lies_inside": "lot other", "is_same": "lot other", "is_open_somewhere": "lot",
+        "is_bounded": "lot", "fields_of": "lot", "any_place": "lot", "parting_place": "lot other", "stretches": "circle lot",
+    },
+    "reach": {
+        "row_back": "chart row", "reach_lot": "arm", "first_bar": "arm place", "reaches_nothing": "arm", "reaches_lot": "arm lot",
+        "reaches_round": "arm circle", "reaches_all": "arm other", "same_reach": "arm other", "parting_reach": "arm other",
+    },
+    "arcs": {
+        "is_arc": "value", "arc_round": "arc", "arc_holds": "arc place", "led_arc": "chart arc", "arc_meets_round": "arc circle",
+        "arcs_share": "arc other", "arc_lies_in": "arc lot", "reaches_arc": "arm arc",
+    },
+    "curves": {
+        "is_curve": "value", "is_closed": "curve", "is_simple": "curve", "led_curve": "chart curve", "curve_lies_in": "curve lot",
+        "reaches_curve": "arm curve", "is_on": "curve place", "parts": "curve place other",
+    },
+    "alike": {
+        "agreement": "chart other", "agree_on": "chart other circle", "mirror_round": "chart", "agree_at": "arm other place",
+        "alike_together": "arm other", "alike": "arm other", "draw_alike": "arm other curve", "parting_drawing": "arm other",
+    },
+    "pencils": {
+        "pencil_kind": "circle other", "in_pencil": "circle other third", "pencil_round": "circle other place",
+        "upright_round": "circle other place", "common_places": "circle other", "count_exchanging": "circle other",
+        "exchanging": "circle other", "keeps_round": "chart circle", "kept_rows": "chart way", "any_kept": "chart way",
+    },
+    "chains": {
+        "chain_count": "circle other", "is_link": "circle other third", "are_neighbours": "circle other link next_link",
+        "next_links": "circle other link", "links_on": "circle other link many",
+    },
+    "readback": {
+        "fits": "chart tests", "crossed": "tests", "freedom": "tests hand", "hands": "tests", "fitting": "tests hand",
+        "bar": "tests hand", "settled": "tests hand place", "settled_round": "tests hand circle", "is_pinned": "tests hand",
+        "needed": "tests hand",
+    },
 }
 
 

@@ -7,19 +7,9 @@ from fractions import Fraction
 from drawarms.errors import InvalidFraction, InvalidLot, InvalidPlace, InvalidRatio, InvalidRing, NotALot, TooMany
 from drawarms.lots import Lot, both, disc_tree, either, holds, less, rest, ring_tree
 from drawarms.rounds import round_of, side_of
+from tests.lotsamples import ALL, EIGHT, NINE, RIM, sample_lots, tree_with
 from tests.support import ANYTHING, BIG, FAR, PLACES, RING, ROUNDS, SIDE, WRONG_FRACTIONS, WRONG_PLACES, WRONG_RATIOS
 from tests.support import WRONG_RINGS, WRONG_ROWS, WRONG_TREES, ArgumentCase, Samples, chain_of_nots, round_of_circle, value_of
-
-ALL = ("all",)
-RIM = ("rim", (0, 1, 0, 0))
-EIGHT = [round_of_circle(at) for at in range(8)]
-NINE = [round_of_circle(at) for at in range(9)]
-
-
-def tree_with(rounds):
-    """A tree with more than eight sides, if need be."""
-    leaves = [("side", circle) for circle in rounds]
-    return ("or", (("and", tuple(leaves[:8])), ("and", tuple(leaves[8:]) or (ALL,))))
 
 
 def holds_by_words(tree, place):
@@ -33,25 +23,6 @@ def holds_by_words(tree, place):
         return not holds_by_words(more[0], place)
     held = [holds_by_words(part, place) for part in more[0]]
     return all(held) if word == "and" else any(held)
-
-
-def sample_tree(samples, levels, rows):
-    word = samples.choice(("side", "rim", "all", "not", "and", "or", "and", "or", "not"))
-    if levels == 1 or word in ("side", "rim", "all"):
-        leaf = word if word in ("side", "rim", "all") else "side"
-        return ALL if leaf == "all" else (leaf, samples.choice(rows))
-    if word == "not":
-        return (word, sample_tree(samples, levels - 1, rows))
-    return (word, tuple(sample_tree(samples, levels - 1, rows) for _ in range(samples.choice((1, 2, 2)))))
-
-
-def sample_lots(seed, many):
-    samples = Samples(seed)
-    lots = []
-    while len(lots) < many:
-        rows = [samples.row(3) for _ in range(2)] + [(1, 0, 0, -1), (-1, 0, 0, 1), (0, 0, 1, 0), (0, -1, 0, 0)]
-        lots.append(Lot(sample_tree(samples, samples.choice((1, 3, 4)), rows)))
-    return lots
 
 
 class Making(ArgumentCase):
