@@ -60,7 +60,7 @@ def _between_arms(arm, other):
 
 
 def _with_round(lot, circle):
-    """The rounds of a lot, and behind them, if it is none of these, another one or None."""
+    """The rounds of a lot, and behind them another one, unless it is None or one of these."""
     return lot.rounds if circle is None or circle in lot.rounds else lot.rounds + (circle,)
 
 
@@ -85,11 +85,15 @@ def _keeps_all_of(chart, lot):
     return True
 
 
+def _reached_by_both(arm, other):
+    """The lot of both reaches, and the map that keeps the places at which the pens are the same."""
+    require_arms(arm, other)
+    return both(lot_of_reach(arm), lot_of_reach(other)), _between_arms(arm, other)
+
+
 def alike_together(arm, other):
     """Whether the pens are the same at all places that are in both reaches."""
-    require_arms(arm, other)
-    lot = both(lot_of_reach(arm), lot_of_reach(other))
-    between = _between_arms(arm, other)
+    lot, between = _reached_by_both(arm, other)
     if between == STAYS:
         return True
     circle = round_of_mirror(between)
@@ -120,9 +124,7 @@ def draw_alike(arm, other, curve):
 
 def parting_drawing(arm, other):
     """Any whole place in both reaches at which the pens differ, if these are open somewhere; otherwise None."""
-    require_arms(arm, other)
-    lot = both(lot_of_reach(arm), lot_of_reach(other))
-    between = _between_arms(arm, other)
+    lot, between = _reached_by_both(arm, other)
     if between == STAYS:
         return None
     circle = round_of_mirror(between)

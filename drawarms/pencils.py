@@ -110,24 +110,11 @@ def kept_rows(chart, way):
     return tuple(kept_base(chart, way))
 
 
-def _real_sum(row, other):
-    """A sum of multiples of two rows, none a multiple of the other one, that is a row of a round."""
-    for one in (row, other):
-        if _is_real(one):
-            return one
-    beside = paired(row, other)
-    if paired(other, other) < 0:
-        return mixed(row, paired(other, other), other, -beside)
-    if paired(row, row) < 0:
-        return mixed(other, paired(row, row), row, -beside)
-    return mixed(row, beside, other, 1)
-
-
 def any_kept(chart, way):
     """Any round that a map keeps in a way and that is told by whole numbers; None if there is none."""
-    base = kept_rows(chart, way)
-    # Of two rows, neither a multiple of the other one, some sum of multiples is always a round's.
-    row = _real_sum(base[0], base[1]) if len(base) > 1 else None
-    if len(base) == 1 and _is_real(base[0]):
-        row = base[0]
-    return None if row is None else round_from(row)
+    rows = list(kept_rows(chart, way))
+    if len(rows) > 1:
+        # Each row ends at its free number, so of two rows one is a round's, or they are (1, 0, 0, 0) and (0, 0, 0, 1).
+        rows.append(mixed(rows[0], 1, rows[1], -1))
+    real = [row for row in rows if _is_real(row)]
+    return round_from(real[0]) if real else None

@@ -229,6 +229,41 @@ class Together(ArgumentCase):
             self.told(first, second + more, expected)
             self.told(first + more[:2], second, expected)
 
+    def test_two_places_that_are_not_whole_anywhere(self):
+        # The first circle is that about 1 + 2 i; the meetings are 1 + 2 i and the roots of 3, once up and down, once across.
+        pole, wide = (1, 2, 1), ((1, 10 ** 9), (10 ** 9, 1))
+        for beside, across, along in [((2, 2, 1), (0, 1, 0, -1), (0, 0, 1, -2)), ((1, 3, 1), (0, 0, 1, -2), (0, 1, 0, -1))]:
+            first, second = on_circle(pole, 3), on_circle(beside, 4)
+            for more, expected in [
+                ((("turnabout", pole, (-3, 1), wide), ("mirror", along)), True),
+                ((("turnabout", pole, (-3, 1), wide), ("mirror", across)), False),
+                ((("turnabout", pole, (3, 1), wide), ("mirror", across)), True),
+                ((("turnabout", pole, (3, 1), wide), ("mirror", along)), False),
+                ((("turnabout", pole, (-2, 1), wide), ("mirror", along)), False), ((("mirror", across),), True),
+                ((("mirror", along),), False),
+                ((("turnabout", pole, (3, 1), wide),), True), ((("turnabout", pole, (-3, 1), wide),), False),
+                ((CARRY, CARRY), False),
+                ((("turnabout", beside, (4, 1), wide),), True), ((("turnabout", beside, (3, 1), wide),), False),
+                ((("grow", pole, (-1, 0, 1), wide),), False), ((("turnabout", pole, (-3, 1), wide), ("carry", (2, 0, 1))), False),
+            ]:
+                self.told(first, second + more, expected)
+                self.told(second, first + more, expected)
+
+    def test_mirrored_maps_that_keep_two_places_that_are_not_whole(self):
+        # The turnabout at 2 with the power -1, then 4 less, keeps the roots of 3 alone; likewise with i times these.
+        for pole, beside, turn, shift in [
+            ((0, 0, 1), (1, 0, 1), (0, 2, 1), (0, -4, 1)), ((0, 0, 1), (0, 1, 1), (2, 0, 1), (-4, 0, 1)),
+            ((1, 2, 1), (2, 2, 1), (1, 4, 1), (0, -4, 1)), ((1, 2, 1), (1, 3, 1), (3, 2, 1), (-4, 0, 1)),
+        ]:
+            first, second = on_circle(pole, 3), on_circle(beside, 4)
+            for power, moved, expected in [(-1, shift, True), (-2, shift, False), (1, shift, False), (-1, (shift[0], shift[1] - 1, 1), False),
+                                           (-1, (shift[0] + 1, shift[1], 1), False)]:
+                more = (("turnabout", turn, (power, 1), WIDE), ("carry", moved))
+                between = after(back(arm_map(second)), arm_map(first + more))
+                self.assertTrue(not expected or (kind_of(between), agreement(between, STAYS)) == ("pulls", ("places", 2, ())))
+                self.told(first, second + more, expected)
+                self.told(first + more, second, expected)
+
     def test_one_place(self):
         # The circles touch at 2.
         first, second = on_circle(ZERO, 4), on_circle((5, 0, 1), 9)

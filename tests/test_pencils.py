@@ -322,6 +322,8 @@ class Kept(ArgumentCase):
         across = map_of(1, (0, 0), (-1, 0), (1, 0), (0, 0))
         self.assertEqual((kept_rows(across, 1), len(kept_rows(across, -1)), any_kept(across, 1)), (((1, 0, 0, 1),), 3, None))
         self.assertEqual(any_kept(mirror_in(BARE), -1), BARE)
+        # All that this one keeps with their sides are sums of multiples of two rows, none of which is a round's.
+        self.assertEqual(keeps_round(SPIN, any_kept(SPIN, 1)), 1)
 
     def test_great_numbers(self):
         samples = Samples(164)
