@@ -8,6 +8,7 @@ from drawarms.places import FAR, quotient_place, require_place
 from drawarms.wholes import is_whole
 
 MOST = 60
+WORDS = ("stays", "settles", "winds", "pulls", "swings", "spirals", "mirror", "flips")
 RETURNS = {(0, 0, 1): 2, (1, 0, 1): 3, (2, 0, 1): 4, (3, 0, 1): 6}
 KEPT_BY_PLAIN = {"stays": "all", "settles": 1, "winds": 2, "pulls": 2, "swings": 2, "spirals": 2}
 KEPT_BY_MIRRORED = {"mirror": "round", "flips": 0, "settles": 1, "winds": 0, "pulls": 2}

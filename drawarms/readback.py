@@ -17,13 +17,23 @@ def _is_test(value):
     return isinstance(value, tuple) and len(value) == 2 and is_place(value[0]) and is_place(value[1])
 
 
+def _first_wrong_test(value):
+    """The index of the first element of a tuple that is no test, or the ninth; None if there is none."""
+    for index, test in enumerate(value):
+        if index == MOST_TESTS or not _is_test(test):
+            return index
+    return None
+
+
+def are_tests(value):
+    """Whether a value is a tuple of tests."""
+    return isinstance(value, tuple) and _first_wrong_test(value) is None
+
+
 def require_tests(tests):
     """Raise InvalidTests for what are no tests."""
-    if not isinstance(tests, tuple):
-        raise InvalidTests(None)
-    for index, test in enumerate(tests):
-        if index == MOST_TESTS or not _is_test(test):
-            raise InvalidTests(index)
+    if not are_tests(tests):
+        raise InvalidTests(_first_wrong_test(tests) if isinstance(tests, tuple) else None)
 
 
 def _require_hand(hand):

@@ -25,14 +25,18 @@ def _parts(tree):
     return (tree[1],) if tree[0] == "not" else tree[1]
 
 
-def _rows_within(value, levels):
-    """The rows of a tree of at most so many levels; None for what is no such tree."""
-    rows = []
+def _is_node(value):
+    return isinstance(value, tuple) and len(value) > 0 and isinstance(value[0], str)
+
+
+def rows_of_tree(value, levels=None):
+    """The rows of a tree, of at most so many levels if these are told; None for what is no such tree."""
+    rows, depth = [], 0
     level = [value]
-    for _ in range(levels):
+    while level and depth != levels:
         deeper = []
         for node in level:
-            if not isinstance(node, tuple) or len(node) == 0 or not isinstance(node[0], str):
+            if not _is_node(node):
                 return None
             if _is_leaf(node):
                 rows.extend(node[1:])
@@ -40,20 +44,19 @@ def _rows_within(value, levels):
                 deeper.extend(_parts(node))
             else:
                 return None
-        level = deeper
+        level, depth = deeper, depth + 1
     return None if level else rows
 
 
 def is_tree(value):
     """Whether a value is a tree within the limits of sides and of depth."""
-    rows = _rows_within(value, MOST_LEVELS)
+    rows = rows_of_tree(value, MOST_LEVELS)
     return rows is not None and len(rows) <= MOST_ROWS
 
 
 def tree_rounds(tree):
-    """The ascending tuple of the different rounds of a tree."""
-    rows = _rows_within(tree, MOST_LEVELS)
-    return tuple(sorted({round_from(row) for row in rows}))
+    """The ascending tuple of the different rounds of a tree, however deep it is."""
+    return tuple(sorted({round_from(row) for row in rows_of_tree(tree)}))
 
 
 def _leaf_holds(leaf, sides):

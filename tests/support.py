@@ -34,6 +34,18 @@ class Stubborn:
         raise RuntimeError("indexed")
 
 
+class Contrary:
+    """A value that says it is equal to everything."""
+
+    __hash__ = None
+
+    def __eq__(self, other):
+        return True
+
+    def __ne__(self, other):
+        return False
+
+
 def nested(depth, value):
     for _ in range(depth):
         value = (value,)
@@ -65,6 +77,13 @@ WRONG_ROWS = ANYTHING + [
     "abcd", b"abcd", (1, 0, 1),
 ]
 WRONG_ROUNDS = WRONG_ROWS + [(-1, 0, 0, 1), (0, -1, 0, 0), (0, 0, -1, 5), (-3, 1, 1, 1), (0, -1, 1, 0), (-1, 5, 0, 0)]
+WRONG_MIRROR_ROWS = ANYTHING + [
+    (1, 0, 0), (1, 0, 0, 1, 0), [1, 0, 0, 1], (0, 0, 0, 0), (0, 0, 0, 1), (1, 0, 0, 0), (-1, 0, 0, 1), (-1, 0, 0, -1),
+    (2, 0, 0, 2),
+    (1, 2, 0, 1), (1, 2, 2, 2), (0, -1, 0, 0), (0, 0, -1, 3), (0, 2, 0, 4), (True, 0, 0, 1), (1, False, 0, 1), (1, 0, 0, True),
+    (1, 0, None, 1), ("1", 0, 0, 1), ((1, 0, 0, 1),), (1, (0,), 0, 1), (BIG, 0, 0, BIG), (1, 2 * BIG, 0, BIG * BIG), "abcd",
+    (4, 4, 0, 1), (0, BIG, 0, 0), (0, 0, 0, -1),
+]
 CIRCLES = [(1, 0, 0, -1), (1, 0, 0, -3), (2, -3, 0, -2), (3, 1, 5, -2)]
 WRONG_LINES = WRONG_ROUNDS + CIRCLES
 WRONG_MAPS = ANYTHING + [
@@ -110,6 +129,16 @@ WRONG_CELLS = ANYTHING + [
     ("mirror",), ("mirror", (0, 1, 0, 0), RING), ("mirror", (1, 0, 0, -1)), ("mirror", (0, -1, 0, 0)),
     ("mirror", (0, 2, 0, 0)), ("mirror", (0, 0, 0, 1)), ("mirror", [0, 1, 0, 0]), ("mirror", 0, 1, 0, 0),
     (STUBBORN, (1, 0, 1)), ("carry", STUBBORN), ("grow", STUBBORN, STUBBORN, STUBBORN), (None, None), (0, (1, 0, 1)),
+]
+WRONG_WORDS = ANYTHING[:7] + [
+    "", "carr", "Carry", "carry ", " carry", "CARRY", b"carry", "shift", "pole", "side", "carrycarry", ("carry",), ["carry"],
+    {"carry": 1},
+    {"carry"}, STUBBORN, len, object(), ("carry", (1, 0, 1)), (STUBBORN,), nested(13, "grow"),
+]
+WRONG_NAMES = ANYTHING[:7] + [
+    "", "abcdefghijklm", "a" * 40, "A", "aB", "a b", " a", "a ", "a1", "1", "_", "a_b", "a-b", "a.b", "a:", ":", "a;", "~", b"a",
+    b"abc",
+    ("a",), ["a"], {"a": 1}, {"a"}, (), [], STUBBORN, object(), len, (STUBBORN,), nested(13, "a"),
 ]
 SIDE = ("side", (1, 0, 0, -1))
 NO_TUPLES = [value for value in ANYTHING if not isinstance(value, tuple)]

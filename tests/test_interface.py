@@ -79,6 +79,35 @@ INTERFACE = {
         "bar": "tests hand", "settled": "tests hand place", "settled_round": "tests hand circle", "is_pinned": "tests hand",
         "needed": "tests hand",
     },
+    "singles": {
+        "mirroring": "row", "row_of_cell": "cell", "cell_of_row": "row ring", "row_fits": "row tests", "rows_freedom": "tests",
+        "rows_base": "tests", "fitting_row": "tests", "settled_image": "tests place", "cells_that_fit": "tests",
+    },
+    "fewest": {
+        "is_true": "chart", "fewest_cells": "chart kinds", "least_arm": "chart kinds ring", "factor_of": "chart",
+    },
+    "stock": {
+        "product_of_powers": "stock exponents", "is_made": "stock ratio", "exponents_for": "stock ratio", "scale_for": "stock ratio",
+        "makes_all": "stock other", "needed_ratios": "stock", "independent": "stock", "is_size_made": "stock size",
+        "stock_arm": "stock pole ratio ring",
+    },
+    "pens": {
+        "stage_map": "arm stage other", "are_copies": "arm stage other", "copy_size": "arm stage other", "straight_place": "chart",
+        "straight_twice": "chart other",
+    },
+    "pins": {
+        "part_of": "arm index part", "mended": "arm index part value", "misfits": "arm tests",
+        "values_that_fit": "arm index part tests", "faults": "arm tests",
+    },
+    "workshops": {"Workshop": ""},
+    "consoles": {"Console": "shop"},
+    "checker": {"accepts": "claim paper"},
+    "certificates": {
+        "certify_maps": "arm other", "certify_return": "chart", "certify_lot": "lot", "certify_inside": "lot other",
+        "certify_round": "chart circle", "certify_chain": "circle other", "certify_tests": "tests hand",
+        "certify_place": "tests hand place", "certify_ratio": "stock ratio", "certify_cells": "chart kinds ring",
+        "certify_part": "arm index part tests",
+    },
 }
 
 
@@ -94,12 +123,20 @@ class Interface(unittest.TestCase):
                     self.assertIs(parameter.kind, parameter.POSITIONAL_OR_KEYWORD)
                     self.assertIs(parameter.default, parameter.empty)
 
-    def test_methods_and_properties_of_lots_stand_in_the_class(self):
+    def test_methods_and_properties_stand_in_their_classes(self):
+        from drawarms.consoles import Console
         from drawarms.lots import Lot
-        for name in ("__init__", "tree", "rounds"):
-            self.assertIn(name, vars(Lot))
-        self.assertIsInstance(vars(Lot)["tree"], property)
-        self.assertIsInstance(vars(Lot)["rounds"], property)
+        from drawarms.workshops import Workshop
+        for made, methods in [
+            (Lot, {"__init__": "tree"}), (Console, {"__init__": "shop", "say": "line"}),
+            (Workshop, {"__init__": "", "put": "name arm", "drop": "name", "wish": "wish", "lift": "index", "named": "name", "undo": "",
+                        "trial": "", "tried": "action", "__len__": "", "__contains__": "name"}),
+        ]:
+            for name, parameters in methods.items():
+                self.assertEqual(list(inspect.signature(vars(made)[name]).parameters), ["self"] + parameters.split())
+        for made, names in [(Lot, ("tree", "rounds")), (Workshop, ("names", "wishes"))]:
+            for name in names:
+                self.assertIsInstance(vars(made)[name], property)
 
     def test_equal_calls_return_equal_results(self):
         from drawarms.arms import pins_of

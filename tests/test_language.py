@@ -178,7 +178,8 @@ class Names(unittest.TestCase):
                 if node.id in BUILTINS and node.id[0].islower():
                     parent = source.parents[node]
                     called = isinstance(parent, ast.Call) and parent.func is node
-                    asked = isinstance(parent, (ast.Call, ast.Tuple)) and node.id in ("int", "str", "bool", "tuple", "list", "dict")
+                    asked = isinstance(parent, (ast.Call, ast.Tuple)) and node.id in ("int", "str", "bool", "tuple", "list",
+                        "dict")
                     keyed = isinstance(parent, ast.keyword) and parent.arg == "key"
                     self.assertTrue(called or asked or keyed, (source.name, node.id))
 
@@ -193,7 +194,8 @@ class Rows(unittest.TestCase):
 
     def test_expressions(self):
         for source in SOURCES:
-            self.assertEqual(source.of(ast.Div, ast.Lambda, ast.GeneratorExp, ast.Yield, ast.YieldFrom, ast.Await, ast.MatMult), [])
+            self.assertEqual(source.of(ast.Div, ast.Lambda, ast.GeneratorExp, ast.Yield, ast.YieldFrom, ast.Await, ast.MatMult),
+                [])
             for node in source.of(ast.Constant):
                 self.assertNotIsInstance(node.value, (float, complex))
             for node in source.of(ast.BinOp):
@@ -202,7 +204,8 @@ class Rows(unittest.TestCase):
             for node in source.of(ast.Compare):
                 for operator, right in zip(node.ops, node.comparators):
                     if isinstance(operator, (ast.Is, ast.IsNot)):
-                        self.assertIsInstance(right, ast.Constant)
+                        is_self = isinstance(node.left, ast.Name) and node.left.id == "self"
+                        self.assertTrue(is_self or isinstance(right, ast.Constant))
 
     def test_calls(self):
         own = {node.name for source in SOURCES for node in source.of(ast.FunctionDef)}
@@ -232,6 +235,19 @@ class Rows(unittest.TestCase):
                     taken = isinstance(parent, ast.Call) and parent.func.id in ("sorted", "len") and len(parent.args) == 1
                     self.assertTrue(taken, (source.name, node.lineno))
 
+    def test_tables_are_read_where_they_stand(self):
+        for source in SOURCES:
+            tables = {node.targets[0].id for node in source.tree.body if isinstance(node, ast.Assign) and isinstance(node.value,
+                (ast.Dict, ast.List))}
+            for node in source.of(ast.Name):
+                if node.id in tables and isinstance(node.ctx, ast.Load):
+                    parent = source.parents[node]
+                    is_read = isinstance(parent, ast.Subscript) and isinstance(parent.ctx, ast.Load) and parent.value is node
+                    is_got = isinstance(parent, ast.Attribute) and parent.attr == "get"
+                    self.assertTrue(is_read or is_got or isinstance(parent, ast.Compare), (source.name, node.lineno))
+                    if is_read:
+                        self.assertFalse(isinstance(source.parents[parent], ast.Call) and source.parents[parent].func is parent)
+
     def test_errors_are_made_where_they_are_raised(self):
         for source in SOURCES:
             for node in source.of(ast.Raise):
@@ -253,8 +269,27 @@ class Classes(unittest.TestCase):
                     self.assertTrue(in_class and isinstance(decorator, ast.Name) and decorator.id == "property")
                 if node.name.startswith("__"):
                     self.assertTrue(in_class and node.name in DUNDERS, node.name)
+                    if node.name == "__exit__":
+                        self.check_exit(node)
                     if node.name == "__init__":
                         self.assertFalse([part for part in ast.walk(node) if isinstance(part, ast.Return)])
+
+    def check_exit(self, function):
+        """Only what is set back, if there was an exception."""
+        first, test = function.body
+        self.assertEqual(ast.unparse(first), "shop = self._shop")
+        self.assertEqual((ast.unparse(test.test), test.orelse), ("kind is not None", []))
+        for row in test.body:
+            self.assertRegex(ast.unparse(row), r"\Ashop\.(_[a-z]+) = self\.\1\Z")
+
+    def test_comparing_and_measuring(self):
+        rows = {"__eq__": "return self is other", "__len__": "return len(self._past)", "__bool__": "return True",
+                "__contains__": "return isinstance(name, str) and name in self._arms"}
+        for source in SOURCES:
+            for node in source.of(ast.FunctionDef):
+                if node.name in rows:
+                    self.assertEqual([ast.unparse(row) for row in node.body], [rows[node.name]])
+                    self.assertEqual(len(node.args.args), 2 if node.name in ("__eq__", "__contains__") else 1)
 
 
 if __name__ == "__main__":

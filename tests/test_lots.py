@@ -9,7 +9,7 @@ from drawarms.lots import Lot, both, disc_tree, either, holds, less, rest, ring_
 from drawarms.rounds import round_of, side_of
 from tests.lotsamples import ALL, EIGHT, NINE, RIM, sample_lots, tree_with
 from tests.support import ANYTHING, BIG, FAR, PLACES, RING, ROUNDS, SIDE, WRONG_FRACTIONS, WRONG_PLACES, WRONG_RATIOS
-from tests.support import WRONG_RINGS, WRONG_ROWS, WRONG_TREES, ArgumentCase, Samples, chain_of_nots, round_of_circle, value_of
+from tests.support import WRONG_RINGS, WRONG_ROWS, WRONG_TREES, ArgumentCase, Contrary, Samples, chain_of_nots, round_of_circle, value_of
 
 
 def holds_by_words(tree, place):
@@ -44,6 +44,10 @@ class Making(ArgumentCase):
         for other in (again, SIDE, None, rest(rest(lot)), 0, "lot"):
             self.assertFalse(lot == other)
             self.assertTrue(lot != other)
+        # Whatever the other one is, and whatever it says.
+        for other in ANYTHING + [Contrary()]:
+            self.assertIs(lot == other, False)
+            self.assertIs(lot != other, True)
         self.assertEqual((lot.tree, lot.rounds), (again.tree, again.rounds))
         self.assertTrue(Lot(("not", ALL)))
         self.assertIs(bool(Lot(("and", (RIM, ("not", RIM))))), True)
