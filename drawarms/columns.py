@@ -2,12 +2,7 @@
 
 from math import gcd
 
-from drawarms.wholes import common_of
-
-
-def _less(column, many, other):
-    """A column less so many times another one."""
-    return [number - many * beside for number, beside in zip(column, other)]
+from drawarms.lattices import less_times, short_base, shortened
 
 
 def _cleared(columns, row):
@@ -17,21 +12,24 @@ def _cleared(columns, row):
     while len(begun) > 1:
         sizes = [abs(column[row]) for column in begun]
         least = begun.pop(sizes.index(min(sizes)))
-        rests = [_less(column, column[row] // least[row], least) for column in begun]
+        rests = [less_times(column, column[row] // least[row], least) for column in begun]
         begun = [least] + [column for column in rests if column[row] != 0]
         others.extend([column for column in rests if column[row] == 0])
     return begun, others
 
 
 def _stairs(columns, many):
-    """For some of so many rows, a sum of columns that is 0 in all rows before it; behind it, what it is a sum of."""
+    """For some of so many rows, a sum of columns that is 0 in all rows before it; and sums that are 0 in all of them.
+
+    Behind each of these sums stands how often each column is in it.
+    """
     left = [list(column) + [int(at == other) for other in range(len(columns))] for at, column in enumerate(columns)]
     stairs = {}
     for row in range(many):
         begun, left = _cleared(left, row)
         if begun:
             stairs[row] = begun[0]
-    return stairs
+    return stairs, left
 
 
 def _taken_down(stairs, goal, many):
@@ -42,14 +40,21 @@ def _taken_down(stairs, goal, many):
             stair = stairs.get(row)
             if stair is None or left[row] % stair[row] != 0:
                 return left, row
-            left = _less(left, left[row] // stair[row], stair)
+            left = less_times(left, left[row] // stair[row], stair)
     return left, None
 
 
-def multiples_for(columns, goal):
-    """How many times the columns, one number for each, make a goal; None if they don't."""
-    left, row = _taken_down(_stairs(columns, len(goal)), goal, len(columns))
-    return None if row is not None else [-number for number in left[len(goal):]]
+def multiples_for(columns, goal, many):
+    """How often the first so many columns are in a sum of all that is a goal, in short numbers; None if there is none.
+
+    The other columns must be no sums of one another, so that what is left of sums that are 0 is not 0.
+    """
+    stairs, noughts = _stairs(columns, len(goal))
+    left, row = _taken_down(stairs, goal, len(columns))
+    if row is not None:
+        return None
+    start, end = len(goal), len(goal) + many
+    return shortened([-number for number in left[start:end]], short_base([nought[start:end] for nought in noughts]))
 
 
 def barring_weights(columns, goal):
@@ -57,7 +62,7 @@ def barring_weights(columns, goal):
 
     None if the columns make the goal.
     """
-    stairs = _stairs(columns, len(goal))
+    stairs, _ = _stairs(columns, len(goal))
     left, row = _taken_down(stairs, goal, len(columns))
     if row is None:
         return None
@@ -72,6 +77,5 @@ def barring_weights(columns, goal):
             weights = [factor * many for many in weights]
             weights[before] = -(factor * weight) // stair[before]
             number = number * factor
-    common = common_of(weights + [number])
-    number = abs(number) // common
-    return [many // common % number for many in weights], number
+    number = abs(number)
+    return [many % number for many in weights], number

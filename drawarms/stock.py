@@ -70,8 +70,8 @@ def columns_of(ratios, base):
 def _exponents(stock, ratio):
     """Exponents of a stock whose product is a ratio; None if there are none."""
     base = base_for(stock + (ratio,))
-    many = multiples_for(columns_of(stock, base), exponents_in(ratio, base))
-    return None if many is None else tuple(many[:len(stock)])
+    exponents = multiples_for(columns_of(stock, base), exponents_in(ratio, base), len(stock))
+    return None if exponents is None else tuple(exponents)
 
 
 def _makes(stock, ratio):

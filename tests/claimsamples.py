@@ -17,6 +17,9 @@ FOUR = THREE + ((TURN, (1, 1, 1)),)
 CROSSED = THREE + ((ONE, (3, 0, 1)),)
 REAL = THREE + (((5, 0, 1), (6, 0, 1)), ((-1, 0, 2), (1, 0, 2)))
 NOT_FITTED = THREE + ((TURN, (7, 7, 3)),)
+# Their first places lie on one line, their second ones on another one.
+RAISED = ((ZERO, TURN), (ONE, (1, 1, 1)), (FAR, FAR))
+UP = (0, (1, 0), (0, 1), (0, 0), (1, 0))
 PAIR = (GROW, CARRY)
 SEEN = ((ONE, (5, 0, 1)), (ZERO, ONE))
 ALL_KINDS = ("carry", "grow", "turnabout", "mirror")
@@ -70,6 +73,8 @@ HOLDING = [
     (("settled", FOUR, None, (0, 2, 1), (1, 2, 1)), (SLIDE, (0, 1, 2, 3))),
     (("settled", FOUR, None, (9, 0, 1), (10, 0, 1)), (SLIDE, (3, 2, 0, 1))),
     (("settled", FOUR, None, (9, 0, 1), (10, 0, 1)), (SLIDE, (0, 1, 2))),
+    (("settled", RAISED, None, (5, 0, 1), (5, 1, 1)), (UP, (0, 1, 2))),
+    (("open", RAISED, None, (5, 1, 1)), (UP, (1, (1, 0), (0, 1), (0, 0), (1, 0)))),
     (("open", THREE, None, TURN), (SLIDE, OVER)), (("open", (), 0, ZERO), (STAYS, SLIDE)),
     (("open", (), None, ZERO), (SLIDE, FLIP)),
     (("open", ((FAR, FAR),), None, TURN), (OVER, SLIDE)), (("open", ((FAR, FAR),), 0, ONE), (SLIDE, STAYS)),
@@ -139,7 +144,9 @@ NOT_SHOWN = [
     (("not made", (TWO, (3, 0, 1)), TURN), (((2, 0), (3, 0)), (1, 0), 1, 2)),
     (("not made", (TWO, (3, 0, 1)), TURN), (((2, 0), (3, 0)), (0,), 1, 2)),
     (("not made", ((8, 0, 1),), (4, 0, 1)), (((2, 0),), (1,), 0, 2)),
-    (("fewest", SLIDE, ALL_KINDS, 1), ()), (("fewest", SLIDE, ("mirror", "grow"), 2), (CARRY,)),
+    (("not made", (TWO, (3, 0, 1)), TURN), (((2, 0), (3, 0)), (0, 1), 1, 2)),
+    (("fewest", SLIDE, ("grow",), 2), (LINE, ("mirror", (0, 2, 0, -1)))), (("fewest", SLIDE, ALL_KINDS, 1), ()),
+    (("fewest", SLIDE, ("mirror", "grow"), 2), (CARRY,)),
     (("fewest", SLIDE, ("mirror",), 2), (LINE, LINE)),
     (("fewest", SLIDE, ALL_KINDS, 1), (LINE, ("mirror", (0, 2, 0, -1)))), (("fewest", STAYS, ("mirror",), 0), (LINE, LINE)),
     (("mended", PAIR, 0, "ratio", SEEN), (3, 0, 1)), (("mended", PAIR, 0, "ratio", SEEN), ONE),

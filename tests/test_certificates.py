@@ -3,10 +3,12 @@
 import unittest
 
 from drawarms.arms import arm_map
-from drawarms.certificates import certify_cells, certify_chain, certify_inside, certify_lot, certify_maps, certify_part, certify_place
+from drawarms.certificates import certify_cells, certify_chain, certify_inside, certify_lot, certify_maps
+from drawarms.certificates import certify_part, certify_place
 from drawarms.certificates import certify_ratio, certify_return, certify_round, certify_tests
 from drawarms.checker import accepts
-from drawarms.errors import InvalidArm, InvalidHand, InvalidIndex, InvalidKinds, InvalidMap, InvalidPart, InvalidPlace, InvalidRatio, InvalidRing
+from drawarms.errors import InvalidArm, InvalidHand, InvalidIndex, InvalidKinds, InvalidMap, InvalidPart, InvalidPlace
+from drawarms.errors import InvalidRatio, InvalidRing
 from drawarms.errors import InvalidRound, InvalidStock, InvalidTests, Meets, NoMapFits, NotALot, Same, TooMany
 from drawarms.fewest import fewest_cells
 from drawarms.kinds import power_of, return_of
@@ -17,12 +19,15 @@ from drawarms.pins import values_that_fit
 from drawarms.places import product_of
 from drawarms.readback import bar, fitting, fits
 from drawarms.stock import exponents_for
-from tests.claimsamples import CARRY, CROSSED, DISC, FLIP, FOUR, GROW, HALF, LINE, NINE, NOT_FITTED, OUT, OVER, PAIR, REAL, SEEN, SLIDE, SPIN
+from tests.claimsamples import CARRY, CROSSED, DISC, FLIP, FOUR, GROW, HALF, LINE, NINE, NOT_FITTED, OUT, OVER, PAIR
+from tests.claimsamples import REAL, SEEN, SLIDE, SPIN
 from tests.claimsamples import THREE, TURNABOUT, UNIT, ZERO, broad, deep
 from tests.claimwords import has_form, is_so
 from tests.lotsamples import rich_lots, sample_lots
-from tests.support import ANYTHING, BIG, FAR, PLACES, RING, ROUNDS, STAYS, WRONG_BOTH_HANDS, WRONG_CELLS, WRONG_LOTS, WRONG_MAPS, WRONG_ONE_HANDS
-from tests.support import WRONG_PLACES, WRONG_RINGS, WRONG_ROUNDS, WRONG_WORDS, ArgumentCase, Samples, indexes_of_wrong
+from tests.support import ANYTHING, BIG, FAR, PLACES, RING, ROUNDS, STAYS, WRONG_BOTH_HANDS, WRONG_CELLS, WRONG_LOTS
+from tests.support import WRONG_MAPS, WRONG_ONE_HANDS
+from tests.support import WRONG_PLACES, WRONG_RINGS, WRONG_ROUNDS, WRONG_WORDS, ArgumentCase, Samples
+from tests.support import indexes_of_wrong
 from tests.test_chains import ALL as CHAINS
 from tests.test_chains import moved
 from tests.test_fewest import CHOICES, SHARP, WORDS, sample_maps

@@ -5,7 +5,8 @@ import unittest
 
 from drawarms.checker import accepts
 from drawarms.lots import Lot, both, either, rest
-from tests.claimsamples import ALL_KINDS, DISC, FAR, FOUR, GROW, HOLDING, NINE, NOT_SHOWN, ONE, OUT, SLIDE, STAYS, THREE, TURN, TURNABOUT, TWO, UNIT, ZERO
+from tests.claimsamples import ALL_KINDS, DISC, FAR, FOUR, GROW, HOLDING, NINE, NOT_SHOWN, ONE, OUT, OVER, RAISED, SLIDE
+from tests.claimsamples import STAYS, THREE, TURN, TURNABOUT, TWO, UNIT, UP, ZERO
 from tests.claimwords import TRUTHS, changed, has_form, is_so, is_value_that_fits, misformed
 from tests.support import ANYTHING, BIG, STUBBORN, WRONG_MAPS, WRONG_PLACES, WRONG_TREES, ArgumentCase
 
@@ -81,6 +82,15 @@ class Accepted(CheckerCase):
             self.assertFalse(is_so(claim), claim)
             for paper in PAPERS:
                 self.says(claim, paper, False)
+
+    def test_papers_that_fit_what_is_not_so(self):
+        on_circle = ("mended", (TURNABOUT,), 0, "pole", (((5, 0, 1), (5, 0, 1)),))
+        for claim, paper in [
+            (on_circle, (3, 0, 1)), (on_circle, (7, 0, 1)), (("settled", RAISED, None, (5, 1, 1), (5, 2, 1)), (UP, (0, 1, 2))),
+            (("settled", THREE, None, TURN, (1, 1, 1)), (SLIDE, (0, 1, 2))), (("open", THREE, 0, TURN), (SLIDE, OVER)),
+        ]:
+            self.assertFalse(is_so(claim))
+            self.says(claim, paper, False)
 
     def test_papers_of_other_claims(self):
         for claim, _ in HOLDING:

@@ -41,9 +41,10 @@ NO_ARMS = [
     "turnabout 0 0 1 4 2 1 1 9 1",
     "turnabout 0 0 1 4 -1 1 1 9 1", "mirror 1 0 0 -1", "mirror 0 -1 0 0", "mirror 0 2 0 0", "mirror 0 1 0", "mirror 0 1 0 0 0",
     "; ".join(["carry 1 0 1"] * 5),
-    "carry 1 0 1; nothing", "carry 1 0 1; carry 0 0 1", "done", "barred",
+    "carry 1  1", "carry 1 - 1", "carry  1 1", "carry 1 0 1; nothing", "carry 1 0 1; carry 0 0 1", "done", "barred",
 ]
-NO_PLACES = ["", " ", "1", "1 2", "1 0 1 ", " 1 0 1", "1  0 1", "1 0 1 1", "+1 0 1", "01 0 1", "-0 0 1", "1 0 1.0", "a 0 1",
+NO_PLACES = ["", " ", "-", " 0 1", "1  1", "1 - 1", "0 0 -", "1", "1 2", "1 0 1 ", " 1 0 1", "1  0 1", "1 0 1 1", "+1 0 1",
+    "01 0 1", "-0 0 1", "1 0 1.0", "a 0 1",
     "1,0,1", "(1, 0, 1)", "1 0 --1", "far", "1_0 0 1", "1 0 1;", "1 0\t1", "1 0 1\n"]
 WRONG_LINES = [value for value in ANYTHING if not isinstance(value, str)] + [
     "", " ", "hello", "Names", "NAMES", "names ", " names", "names a", "undo ", " undo", "Undo", "undo 1", "redo", "done", "drop",

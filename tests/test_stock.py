@@ -90,6 +90,8 @@ class Made(StockCase):
             (((6, 0, 1), (10, 0, 1), (15, 0, 1)), (4, 0, 1), True), (((-2, 0, 1),), (4, 0, 1), True), (((-2, 0, 1),), TWO, False),
             (((-2, 0, 1), BACK), TWO, True), (((4, 0, 1), (-4, 0, 1)), BACK, True), (((3, 4, 5),), (-7, 24, 25), True),
             (((3, 4, 5),), (3, -4, 5), True), (((3, 4, 5),), (4, 3, 5), False), (((2, 0, 3), (4, 0, 27)), THREE, True),
+            (((6, 0, 1), (270, 0, 1), (625, 0, 1)), (1125, 0, 1), False),
+            (((6, 0, 1), (270, 0, 1), (625, 0, 1)), (45, 0, 1), True),
             (((BIG, 0, 1),), (BIG * BIG, 0, 1), True), (((BIG, 1, 3),), (BIG, -1, 3), False), (((2 ** 120, 0, 1),), TWO, False),
         ]:
             self.same_by_name(is_made, {"stock": stock, "ratio": ratio}, expected)
@@ -137,6 +139,27 @@ class Made(StockCase):
             found.append(exponents is None)
         self.assertGreater(min(found.count(True), found.count(False)), 150)
 
+    def test_products_of_small_powers(self):
+        samples = Samples(228)
+        found = []
+        for _ in range(150):
+            stock = [self.sample_product(samples) for _ in range(samples.choice((2, 3, 4)))]
+            stock = tuple(ratio for ratio in stock if ratio != ONE) or (TWO,)
+            ratio = self.sample_product(samples)
+            for one in (ratio, product_of(power(ratio, 4), stock[0])):
+                exponents, scale = exponents_for(stock, one), scale_for(stock, one)
+                self.assertEqual(exponents is None, scale is not None)
+                if exponents is None:
+                    self.check_scale(stock, one, scale)
+                else:
+                    self.assertEqual(product(stock, exponents), one)
+                found.append(exponents is None)
+        self.assertGreater(min(found.count(True), found.count(False)), 20)
+
+    def sample_product(self, samples):
+        """A product of powers of few numbers, so that a stock of these makes some of them."""
+        return product((TURN, (1, 1, 1), (2, 1, 1), THREE), [samples.whole(3) for _ in range(4)])
+
     def test_small_products_are_found(self):
         samples = Samples(222)
         for _ in range(40):
@@ -150,7 +173,7 @@ class Made(StockCase):
 
     def test_great_exponents(self):
         for stock, ratio in [((TWO,), (2 ** 130, 0, 1)), ((TWO,), (1, 0, 2 ** 130)), ((DIAGONAL,), (2 ** 64, 0, 1)),
-                             (((2 ** 7, 0, 1), (2 ** 5, 0, 1)), (2 ** 100, 0, 1)), (((3, 4, 5),), power((3, 4, 5), -100))]:
+                             (((2 ** 7, 0, 1), (2 ** 5, 0, 1)), (2 ** 1000, 0, 1)), (((3, 4, 5),), power((3, 4, 5), -100))]:
             exponents = exponents_for(stock, ratio)
             self.assertGreater(max(abs(many) for many in exponents), 60)
             self.assertEqual(product(stock, exponents), ratio)
